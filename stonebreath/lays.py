@@ -16,6 +16,17 @@ def laid(board, stand, hand, point):
     return (behind, taken)
 
 
+def lays_on(board, stand, hand, points):
+    found = []
+    for point in points:
+        try:
+            told = laid(board, stand, hand, point)
+        except (NoLay, NoBreath):
+            continue
+        found.append((point, told[0], told[1]))
+    return found
+
+
 def filled(stand, points, what):
     changed = list(stand)
     for point in points:

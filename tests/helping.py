@@ -2,7 +2,10 @@
 
 import copy
 import itertools
+import random
 import unittest
+
+from stonebreath.errors import NoBreath, NoLay
 
 GREAT = 10 ** 59
 NO_NUMBERS = (True, False, None, "1", "", (1,), (), [1], {}, 1.0, 1.5)
@@ -119,6 +122,70 @@ def slow_sound(board, stand):
     return all(slow_breaths(board, stand, row) for row in slow_rows(board, stand))
 
 
+def slow_laid(board, stand, hand, point):
+    """What [9] tells: a stand and the points taken, or the refusal."""
+    if stand[point] != 0:
+        return NoLay
+    other = slow_other(hand)
+    # In a sound stand the stones taken are those of the rows that had just this point as breath.
+    taken = [row for row in slow_rows(board, stand) if stand[row[0]] == other]
+    taken = sorted(itertools.chain(*[row for row in taken if slow_breaths(board, stand, row) == [point]]))
+    behind = tuple(hand if p == point else 0 if p in taken else stand[p] for p in range(len(board)))
+    own = [row for row in slow_rows(board, behind) if point in row][0]
+    return (behind, taken) if slow_breaths(board, behind, own) else NoBreath
+
+
+def slow_other(hand):
+    return {1: 2, 2: 1}[hand]
+
+
+def slow_lays(board, stand, hand):
+    """The stands behind all lays that aren't refused, by their points."""
+    tried = [(point, slow_laid(board, stand, hand, point)) for point in range(len(board))]
+    return {point: told[0] for point, told in tried if told not in (NoLay, NoBreath)}
+
+
 def picture(*lines):
     """A stand of a grid from lines of signs: . free, x of hand 1, o of hand 2."""
     return tuple(".xo".index(sign) for line in lines for sign in line)
+
+
+def path_board(many):
+    return joined(many, [(p, p + 1) for p in range(many - 1)])
+
+
+def sound_stands(board, step=1):
+    return (stand for stand in some_stands(board, step) if slow_sound(board, stand))
+
+
+def chance_boards(seed, times, many, least_lines, most_lines):
+    """Boards that are the same in each run, with some of all lines."""
+    chance = random.Random(seed)
+    pairs = list(itertools.combinations(range(many), 2))
+    for time in range(times):
+        yield joined(many, chance.sample(pairs, chance.randint(least_lines, most_lines)))
+
+
+def chance_stand(chance, board, fullness):
+    """A sound stand: stones in about fullness of ten points, less those without a breath."""
+    stand = tuple(chance.choice((1, 2)) if chance.randrange(10) < fullness else 0 for point in board)
+    while not slow_sound(board, stand):
+        dead = [row for row in slow_rows(board, stand) if not slow_breaths(board, stand, row)]
+        stand = tuple(0 if any(p in row for row in dead) else stand[p] for p in range(len(board)))
+    return stand
+
+
+def renamed_board(board, order):
+    return tuple(tuple(sorted(order[q] for q in board[order.index(p)])) for p in range(len(board)))
+
+
+def renamed_stand(stand, order):
+    return tuple(stand[order.index(p)] for p in range(len(stand)))
+
+
+def renamed_lists(lists, order):
+    return sorted(sorted(order[p] for p in points) for points in lists)
+
+
+def exchanged_stand(stand):
+    return tuple((0, 2, 1)[what] for what in stand)

@@ -1,6 +1,6 @@
 """The form of the package's files: those rules of LANGUAGE.md that a look at names and single steps can see.
 
-L13, L18, L19, L22, L26 and L28 are not looked at, L15, L23 and L24 in part: what is not seen here is still asked for.
+L13, L19, L22 and L28 are not looked at, L15, L18, L23, L24 and L26 in part: what is not seen here is still asked for.
 """
 
 import ast
@@ -35,6 +35,9 @@ NO_WORDS = re.compile(
 NO_FILES = set("test tests testing site conftest sitecustomize usercustomize".split())
 WALKED = set("zip enumerate reversed range".split())
 WALKERS = set("list tuple dict sorted sum any all enumerate zip min max".split())
+PYTHONS_OWN = {name for kind in ("", 0, [], {}, set(), b"") for name in dir(kind)}
+METHODS_TOO = METHODS | {"add", "discard"}
+VALUES_TOO = set("count index title find get join lower upper split strip copy add".split())
 TWO_LINES = set("__init__ __eq__ __repr__ __str__ __len__".split())
 
 
@@ -173,6 +176,19 @@ def methods_of(tree):
     return {part.name for node in classes for part in node.body if isinstance(part, ast.FunctionDef)}
 
 
+def values_of(tree):
+    stored = [node for node in ast.walk(tree) if isinstance(node, ast.Attribute) and isinstance(node.ctx, ast.Store)]
+    return {node.attr for node in stored}
+
+
+def faults_of_own_names(methods, values):
+    """L18, L26: over the whole package no name is both, and which names are free."""
+    for name in sorted(methods & values):
+        yield "L18", name
+    for name in sorted((methods - METHODS_TOO - TWO_LINES | values - VALUES_TOO) & PYTHONS_OWN):
+        yield "L26", name
+
+
 def faults(text, own_methods=frozenset()):
     tree = ast.parse(text)
     found = list(faults_of_text(text)) + list(faults_of_top(tree)) + list(faults_of_names(tree))
@@ -219,6 +235,14 @@ class FormTest(unittest.TestCase):
         for name, text in texts.items():
             self.assertEqual(faults(text, own_methods), [], name)
 
+    def test_the_names_of_methods_and_values(self):
+        trees = [ast.parse(path.read_text()) for path in package_files()]
+        methods = set().union(*[methods_of(tree) for tree in trees])
+        values = set().union(*[values_of(tree) for tree in trees])
+        self.assertEqual(list(faults_of_own_names(methods, values)), [])
+        self.assertEqual(list(faults_of_own_names({"hand", "get"}, {"hand"})), [("L18", "hand")])
+        self.assertEqual(list(faults_of_own_names({"sort"}, {"items"})), [("L26", "items"), ("L26", "sort")])
+
     def test_what_is_against_a_rule_is_seen(self):
         for rule, text in (
             ("L2", "import re"), ("L2", "from .errors import NoLay"), ("L3", "print(1)"), ("L4", "def f(*a):\n    pass"),
@@ -227,7 +251,8 @@ class FormTest(unittest.TestCase):
             ("L8", "def f(a):\n    return hash(a)"), ("L10", "x = 1" + " " * 120), ("L12", "_x = 1"),
             ("L14", "x = 1\t"), ("L15", "x = 1\nx = 2"), ("L15", "def f(list):\n    pass"), ("L17", "# a type"),
             ("L20", "def f(a, b):\n    return a is b"), ("L23", "def f():\n    a = range(3)\n    return a"),
-            ("L24", "def f(a):\n    return set(a)"), ("L25", "def f(a):\n    a.sort()"), ("L27", "x = '%'"), ("L10", "def f():\n" + "    pass\n" * 40),
+            ("L24", "def f(a):\n    return set(a)"), ("L25", "def f(a):\n    a.sort()"), ("L27", "x = '%'"),
+            ("L10", "def f():\n" + "    pass\n" * 40),
         ):
             seen = [fault[0] for fault in faults(text)]
             self.assertTrue(rule in seen or (rule == "L2" and "L3" in seen), (rule, text, seen))

@@ -1,26 +1,12 @@
-import itertools
 import unittest
 
 from stonebreath.errors import NoBreath, NoLay
-from stonebreath.lays import laid
+from stonebreath.lays import laid, lays_on
 from tests.helping import (
-    Case, all_stands, grid_board, joined, picture, slow_breaths, slow_rows, slow_sound, small_boards, some_stands,
+    Case, all_stands, grid_board, joined, picture, slow_laid, slow_sound, small_boards, some_stands,
 )
 
 PATH = joined(5, [(0, 1), (1, 2), (2, 3), (3, 4)])
-
-
-def slow_laid(board, stand, hand, point):
-    """What [9] tells: a stand and the points taken, or the refusal."""
-    if stand[point] != 0:
-        return NoLay
-    other = {1: 2, 2: 1}[hand]
-    # In a sound stand the stones taken are those of the rows that had just this point as breath.
-    taken = [row for row in slow_rows(board, stand) if stand[row[0]] == other]
-    taken = sorted(itertools.chain(*[row for row in taken if slow_breaths(board, stand, row) == [point]]))
-    behind = tuple(hand if p == point else 0 if p in taken else stand[p] for p in range(len(board)))
-    own = [row for row in slow_rows(board, behind) if point in row][0]
-    return (behind, taken) if slow_breaths(board, behind, own) else NoBreath
 
 
 class LaidTest(Case):
@@ -113,6 +99,12 @@ class LaidTest(Case):
         self.same(second, ((0, 0, 2, 1, 0), []))
         second[1].append(7)
         self.same(laid(PATH, first[0], 1, 3), ((0, 0, 2, 1, 0), []))
+
+    def test_the_lays_of_several_points_are_those_that_are_not_refused(self):
+        wanted = [(4, (0, 0, 1, 0, 1), [3]), (1, (0, 1, 1, 2, 0), [])]
+        self.asks(wanted, lays_on, PATH, (0, 0, 1, 2, 0), 1, [4, 2, 1, 3])
+        self.asks([], lays_on, PATH, (0, 1, 0, 0, 0), 2, [0, 1])
+        self.asks([], lays_on, PATH, (0, 1, 0, 0, 0), 2, [])
 
 
 if __name__ == "__main__":
