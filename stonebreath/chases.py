@@ -2,7 +2,7 @@
 
 from stonebreath.common import other_hand
 from stonebreath.errors import TooMuch
-from stonebreath.lays import lays_on
+from stonebreath.lays import new_lays, steps
 from stonebreath.rows import breaths, patch
 
 MOST_POINTS = 16
@@ -14,7 +14,6 @@ def chase(board, stand, hunter, point, most):
     return Chase(board, hunter, point, most).hunt([stand], ())
 
 
-# Both turns walk the points rising, and a pass behind them: so a web comes out sorted.
 class Chase:
     def __init__(self, board, hunter, point, most):
         self.joined = board
@@ -40,7 +39,7 @@ class Chase:
         if self.is_spent(deeds):
             return ("free", [])
         catching = []
-        for step in self.runner_steps(came):
+        for step in steps(self.joined, came, self.runner):
             told = self.hunt(came + [step[1]], deeds + (step[0],))
             if told[0] == "free":
                 return ("free", [(deeds, step[0])] + told[1])
@@ -52,18 +51,8 @@ class Chase:
 
     # Where the row has three breaths or more, two at least are left behind any lay: so there is none.
     def hunter_lays(self, came):
-        near = self.breaths_at(came[-1])
-        lays = self.new_lays(came, self.hunter, near)
+        lays = new_lays(self.joined, came, self.hunter, self.breaths_at(came[-1]))
         return [lay for lay in lays if lay[1][self.stone] == 0 or len(self.breaths_at(lay[1])) <= 1]
-
-    def runner_steps(self, came):
-        lays = self.new_lays(came, self.runner, list(range(len(self.joined))))
-        steps = [(lay[0], lay[1]) for lay in lays]
-        steps.append((None, came[-1]))
-        return steps
-
-    def new_lays(self, came, hand, points):
-        return [lay for lay in lays_on(self.joined, came[-1], hand, points) if lay[1] not in came]
 
     def breaths_at(self, stand):
         return breaths(self.joined, stand, patch(self.joined, stand, self.stone))

@@ -1,9 +1,21 @@
-"""What several stages need: whole numbers, the other hand, patches of like points."""
+"""What several stages need: whole numbers, and those written by their figures, the other hand, patches of points."""
+
+FIGURES = "0123456789"
+MOST_FIGURES = 60
 
 
 def is_whole(thing):
     # To Python True and False are ints; to the document they are no numbers.
     return isinstance(thing, int) and not isinstance(thing, bool)
+
+
+def number_of(word):
+    # Some signs beyond these ten are figures to Python too, so each is looked up.
+    if not 1 <= len(word) <= MOST_FIGURES or not all([sign in FIGURES for sign in word]):
+        return None
+    if word[0] == "0" and word != "0":
+        return None
+    return int(word)
 
 
 def other_hand(hand):

@@ -27,6 +27,17 @@ def lays_on(board, stand, hand, points):
     return found
 
 
+def new_lays(board, came, hand, points):
+    return [lay for lay in lays_on(board, came[-1], hand, points) if lay[1] not in came]
+
+
+# The points rise, and the pass comes behind them: so a web that is put together by a walk over these comes out sorted.
+def steps(board, came, hand):
+    found = [(lay[0], lay[1]) for lay in new_lays(board, came, hand, list(range(len(board))))]
+    found.append((None, came[-1]))
+    return found
+
+
 def filled(stand, points, what):
     changed = list(stand)
     for point in points:

@@ -100,6 +100,29 @@ def faults_of_names(tree):
             yield "L12", node.lineno
 
 
+def faults_of_kept(tree):
+    """L15: a list or dict of a file's top is only read, on the spot."""
+    kept = {
+        node.targets[0].id for node in tree.body
+        if isinstance(node, ast.Assign) and isinstance(node.value, (ast.List, ast.Dict))
+    }
+    read = set()
+    for node in ast.walk(tree):
+        if isinstance(node, ast.Subscript) and isinstance(node.ctx, ast.Load):
+            read.add(node.value)
+        if isinstance(node, ast.Compare):
+            read.update(node.comparators)
+        if isinstance(node, (ast.For, ast.comprehension)):
+            read.add(node.iter)
+        if isinstance(node, ast.Attribute) and node.attr in ("get", "items", "keys", "values", "index", "count"):
+            read.add(node.value)
+        if isinstance(node, ast.Call) and isinstance(node.func, ast.Name) and node.func.id in ("len", "list", "dict"):
+            read.update(node.args)
+    for node in ast.walk(tree):
+        if isinstance(node, ast.Name) and isinstance(node.ctx, ast.Load) and node.id in kept and node not in read:
+            yield "L15", node.lineno
+
+
 def faults_of_defs(tree):
     """L4, L5, L10, L21: functions and classes."""
     for node in ast.walk(tree):
@@ -192,7 +215,7 @@ def faults_of_own_names(methods, values):
 def faults(text, own_methods=frozenset()):
     tree = ast.parse(text)
     found = list(faults_of_text(text)) + list(faults_of_top(tree)) + list(faults_of_names(tree))
-    found += list(faults_of_defs(tree)) + list(faults_of_steps(tree))
+    found += list(faults_of_kept(tree)) + list(faults_of_defs(tree)) + list(faults_of_steps(tree))
     return found + list(faults_of_calls(tree, own_methods | methods_of(tree) | {"__init__"}))
 
 
@@ -245,14 +268,16 @@ class FormTest(unittest.TestCase):
 
     def test_what_is_against_a_rule_is_seen(self):
         for rule, text in (
-            ("L2", "import re"), ("L2", "from .errors import NoLay"), ("L3", "print(1)"), ("L4", "def f(*a):\n    pass"),
+            ("L2", "import re"), ("L2", "from .errors import NoLay"), ("L3", "print(1)"),
+            ("L4", "def f(*a):\n    pass"),
             ("L5", "class A:\n    x = 1"), ("L6", "def f():\n    a = b = 1"), ("L6", "def f():\n    a, b = (1, 2)"),
             ("L7", "x = 1.5"), ("L7", "def f(a):\n    return a / 2"), ("L7", "def f(a):\n    return any(b for b in a)"),
             ("L8", "def f(a):\n    return hash(a)"), ("L10", "x = 1" + " " * 120), ("L12", "_x = 1"),
             ("L14", "x = 1\t"), ("L15", "x = 1\nx = 2"), ("L15", "def f(list):\n    pass"), ("L17", "# a type"),
             ("L20", "def f(a, b):\n    return a is b"), ("L23", "def f():\n    a = range(3)\n    return a"),
             ("L24", "def f(a):\n    return set(a)"), ("L25", "def f(a):\n    a.sort()"), ("L27", "x = '%'"),
-            ("L10", "def f():\n" + "    pass\n" * 40),
+            ("L10", "def f():\n" + "    pass\n" * 40), ("L15", "x = {1: 2}\ndef f():\n    return x"),
+            ("L15", "x = [1]\ndef f():\n    x.append(2)"), ("L15", "x = [1]\ndef f():\n    x[0] = 2"),
         ):
             seen = [fault[0] for fault in faults(text)]
             self.assertTrue(rule in seen or (rule == "L2" and "L3" in seen), (rule, text, seen))
